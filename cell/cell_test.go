@@ -37,7 +37,7 @@ func around(n *big.Int) int {
 	return int(m.Int64())
 }
 
-// P1.1, with the three tests below it.
+// P1.1
 func TestFlag(t *testing.T) {
 	if n := cell.Flag(true); n != -1 {
 		t.Errorf("true: %d", n)
@@ -47,6 +47,7 @@ func TestFlag(t *testing.T) {
 	}
 }
 
+// P1.1
 func TestBelow(t *testing.T) {
 	for _, c := range []struct {
 		a, b int
@@ -71,6 +72,7 @@ func TestBelow(t *testing.T) {
 	}
 }
 
+// P1.1
 func TestWithin(t *testing.T) {
 	for _, c := range []struct {
 		x, from, to int
@@ -89,6 +91,7 @@ func TestWithin(t *testing.T) {
 	}
 }
 
+// P1.1
 func TestWithinOfEdges(t *testing.T) {
 	ring := new(big.Int).Lsh(whole(1), 64)
 	for _, from := range edges {
@@ -106,7 +109,7 @@ func TestWithinOfEdges(t *testing.T) {
 	}
 }
 
-// P1.3, with the two tests below it.
+// P1.3
 func TestShifts(t *testing.T) {
 	for _, c := range []struct{ a, n, left, right int }{
 		{3, 2, 12, 0}, {12, 2, 48, 3}, {12, 0, 12, 12}, {-12, 0, -12, -12}, {0, 5, 0, 0},
@@ -123,7 +126,7 @@ func TestShifts(t *testing.T) {
 	}
 }
 
-// TestShiftsTooFar has counts whose low bits are a shift, too: all of a count matters.
+// TestShiftsTooFar has counts whose low bits are a shift, too: all of a count matters (P1.3).
 func TestShiftsTooFar(t *testing.T) {
 	for _, n := range []int{64, 65, 127, 128, 256, 257, 1 << 16, 1<<16 + 1, 1 << 32, 1<<32 + 1, math.MaxInt, -1, -2, -63, -64, -1 << 32, math.MinInt, math.MinInt + 1} {
 		for _, a := range edges {
@@ -134,7 +137,7 @@ func TestShiftsTooFar(t *testing.T) {
 	}
 }
 
-// TestShiftsOfEdges holds each shift against products and quotients by powers of 2, of cells without their signs.
+// TestShiftsOfEdges holds each shift against products and quotients by powers of 2, of cells without their signs (P1.3).
 func TestShiftsOfEdges(t *testing.T) {
 	for _, a := range edges {
 		for n := range 64 {

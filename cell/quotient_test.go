@@ -22,7 +22,7 @@ func left(a, b, q *big.Int) *big.Int {
 	return new(big.Int).Sub(a, new(big.Int).Mul(b, q))
 }
 
-// P1.2, with all tests below it but the last one.
+// P1.2
 func TestDiv(t *testing.T) {
 	for _, c := range []struct{ a, b, q, r int }{
 		{7, 2, 3, 1}, {-7, 2, -4, 1}, {7, -2, -4, -1}, {-7, -2, 3, -1},
@@ -42,6 +42,7 @@ func TestDiv(t *testing.T) {
 	}
 }
 
+// P1.2
 func TestDivByNought(t *testing.T) {
 	for _, a := range edges {
 		if q, r, ok := cell.Div(a, 0); q != 0 || r != 0 || ok {
@@ -50,6 +51,7 @@ func TestDivByNought(t *testing.T) {
 	}
 }
 
+// P1.2
 func TestDivOfEdges(t *testing.T) {
 	for _, a := range edges {
 		for _, b := range edges {
@@ -66,6 +68,7 @@ func TestDivOfEdges(t *testing.T) {
 	}
 }
 
+// P1.2
 func TestScale(t *testing.T) {
 	for _, c := range []struct{ a, b, c, q, r int }{
 		{1 << 62, 4, 8, 1 << 61, 0},
@@ -86,7 +89,7 @@ func TestScale(t *testing.T) {
 	}
 }
 
-// TestScaleAtTheEnds has products that are three times 2^63 or 2^64, or 1 beside that: the last quotients that are cells, and the first ones that are none, some of them by rounding alone.
+// TestScaleAtTheEnds has products that are three times 2^63 or 2^64, or 1 beside that: the last quotients that are cells, and the first ones that are none, some of them by rounding alone (P1.2).
 func TestScaleAtTheEnds(t *testing.T) {
 	for _, c := range []struct {
 		a, b, c, q, r int
@@ -123,6 +126,7 @@ func TestScaleAtTheEnds(t *testing.T) {
 	}
 }
 
+// P1.2
 func TestScaleByNought(t *testing.T) {
 	for _, a := range edges {
 		for _, b := range edges {
@@ -143,6 +147,7 @@ func scaled(a, b, c int) (int, int, bool) {
 	return around(q), around(left(p, whole(c), q)), true
 }
 
+// P1.2
 func TestScaleOfEdges(t *testing.T) {
 	for _, a := range edges {
 		for _, b := range edges {
@@ -168,7 +173,7 @@ func nearer(r, by int) bool {
 	return 0 <= r && r < by
 }
 
-// P1.4.
+// P1.4
 func TestWhatIsLeft(t *testing.T) {
 	for _, a := range edges {
 		for _, b := range edges {
